@@ -1,0 +1,1 @@
+"""Farbooks: books far apart that tell one story."""
