@@ -212,6 +212,10 @@ class Ledger:
         """The verdict chosen for the deal, or None."""
         return self.all_chosen.get(deal)
 
+    def verdicts(self):
+        """The list of (deal, verdict) of the dealings chosen, in the order in which they were opened."""
+        return [(deal, self.all_chosen[deal]) for deal in self.all_opened if deal in self.all_chosen]
+
     def ended(self, deal):
         """The verdict with which the deal has ended here, or None."""
         return self.all_ended.get(deal)

@@ -15,6 +15,13 @@ FUNCTIONS = {
         "cut_at": ["spans", "key"],
         "joined_at": ["spans", "key"],
     },
+    "bench.py": {
+        "woken": ["seat"],
+        "handled": ["seat", "letter"],
+        "proposed": ["seat", "command"],
+        "pending": ["seat"],
+        "papers": ["seat"],
+    },
 }
 
 CLASSES = {
@@ -46,6 +53,33 @@ CLASSES = {
             "value": ["key"],
             "tells": ["key", "moment"],
             "twin": [],
+        },
+    },
+    "seat.py": {"Seat": {"__init__": ["group", "house", "names"], "names": [], "entries": [], "fall": []}},
+    "steward.py": {
+        "Steward": {
+            "__init__": ["group"],
+            "woken": ["ledger", "pending", "now"],
+            "applied": ["ledger", "command", "word", "now"],
+            "heard": ["ledger", "pending", "note", "now"],
+        },
+    },
+    "world.py": {
+        "World": {
+            "__init__": ["plan"],
+            "plan": [],
+            "happen": ["happening"],
+            "time": [],
+            "letters": [],
+            "standing": [],
+            "chairs": [],
+            "groups": [],
+            "ledger": ["house", "group"],
+            "seat_log": ["house", "group"],
+            "names": ["house", "group"],
+            "kept_place": ["house", "group"],
+            "history": [],
+            "papers": [],
         },
     },
 }
