@@ -216,6 +216,10 @@ class Ledger:
         """The list of (deal, verdict) of the dealings chosen, in the order in which they were opened."""
         return [(deal, self.all_chosen[deal]) for deal in self.all_opened if deal in self.all_chosen]
 
+    def ops_opened(self, deal):
+        """The ops with which the deal was opened, or None."""
+        return self.all_opened.get(deal)
+
     def ended(self, deal):
         """The verdict with which the deal has ended here, or None."""
         return self.all_ended.get(deal)
@@ -228,9 +232,13 @@ class Ledger:
         """The list of moves taken."""
         return list(self.arrivals)
 
+    def newest(self, key):
+        """The pair (moment, value) of the key's greatest moment on its shelf."""
+        return self.shelf.newest(key)
+
     def value(self, key):
         """The newest value of the key on its shelf."""
-        return self.shelf.newest(key)[1]
+        return self.newest(key)[1]
 
     def tells(self, key, moment):
         """What the key was at the moment, or None where the ledger doesn't know."""

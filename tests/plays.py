@@ -264,17 +264,24 @@ def check_world(test, world):
 
 
 def calm(world, rounds):
-    """Rounds in which all is woken and all letters are handed, as point 23 tells of them."""
+    """Rounds in which all is woken and all letters are handed, as point 23 tells of them; what was done."""
+    done = []
+
+    def do(*happening):
+        world.happen(happening)
+        done.append(happening)
+
     for number in range(rounds):
-        world.happen(("time", 250))
+        do("time", 250)
         for group in world.groups():
             house = waker(world, group)
             if house is not None:
-                world.happen(("wake", house, group))
+                do("wake", house, group)
         handed = 0
         while world.letters() and handed < 3000:
-            world.happen(("hand", 0))
+            do("hand", 0)
             handed += 1
+    return done
 
 
 def waker(world, group):

@@ -22,6 +22,25 @@ FUNCTIONS = {
         "pending": ["seat"],
         "papers": ["seat"],
     },
+    "tale.py": {
+        "record_of": ["world"],
+        "kept_of": ["record", "group"],
+        "book_of": ["record", "group"],
+    },
+    "order.py": {
+        "order_of": ["record"],
+        "faults": ["record"],
+        "plain": ["order", "moment"],
+    },
+    "calming.py": {
+        "calm": ["world", "rounds"],
+        "settled": ["world"],
+    },
+    "story.py": {
+        "read_story": ["text"],
+        "shown_story": ["plan", "happenings"],
+        "told_story": ["text"],
+    },
 }
 
 CLASSES = {

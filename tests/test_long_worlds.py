@@ -2,7 +2,10 @@
 
 import unittest
 
+from farbooks.calming import calm, settled
+from farbooks.order import faults, order_of
 from farbooks.spans import all_kept
+from farbooks.tale import book_of, record_of
 from tests import plays
 from tests.worlds import state_of
 
@@ -73,29 +76,57 @@ class LongWorlds(unittest.TestCase):
         """Play, with a round of calm now and then where one is asked for, so that more comes to its end."""
         watch = Watch(self, player.world)
         for number in range(many):
-            player.play(25)
+            self.play_some(player)
             if calm_each and number % calm_each == 0:
-                plays.calm(player.world, 1)
+                calm(player.world, 1)
             watch.look()
         plays.check_world(self, player.world)
         return watch
 
-    def settle(self, player, watch):
-        """Let enough houses stand, and calm."""
+    def play_some(self, player):
+        """Play 25 happenings, with no fault behind each."""
+        for number in range(25):
+            player.play(1)
+            self.assertEqual(faults(record_of(player.world)), [], player.done)
+
+    def settle(self, player, watch, are_few=False):
+        """Let all houses stand, or as few as there may be, and calm."""
         world = player.world
-        for house, under, over in world.plan()[1]:
+        houses = [row[0] for row in world.plan()[1]]
+        for house in houses:
             world.happen(("rise", house))
         while len(world.letters()) > 400:
             world.happen(("lose", 0))
+        if are_few:
+            self.let_fall(world, player.rng.sample(houses, len(houses)))
         self.assertTrue(plays.may_be_calmed(world))
         hour = world.time()
-        plays.calm(world, 40)
+        calm(world, 40)
         self.assertTrue(plays.is_settled(world))
+        self.assertTrue(settled(world))
         self.assertEqual(plays.unknown_of(world, (0, 1, 150, hour // 2, hour - 1, hour)), [])
         watch.look()
         order = plays.check_world(self, world)
         self.check_all_done(world, order)
+        self.check_record(world, order)
         return order
+
+    def let_fall(self, world, houses):
+        """Let each of the houses fall without which the world may yet be calmed."""
+        for house in houses:
+            world.happen(("fall", house))
+            if not plays.may_be_calmed(world):
+                world.happen(("rise", house))
+
+    def check_record(self, world, order):
+        """The record has no fault, and tells of the same order and books as the tests find by themselves."""
+        record = record_of(world)
+        self.assertEqual(faults(record), [])
+        self.assertEqual(order_of(record), order)
+        books, opened = plays.books_of(world)
+        for group, book in books.items():
+            self.assertEqual(book_of(record, group).owned(), book.owned())
+            self.assertEqual([book_of(record, group).value(key) for key in plays.KEYS], [book.value(key) for key in plays.KEYS])
 
     def check_all_done(self, world, order):
         """In a settled world each dealing is done wholly or not at all, and each key is owned once."""
@@ -121,7 +152,7 @@ class LongWorlds(unittest.TestCase):
         done = moved = several = 0
         for seed in range(24):
             player = plays.Player(seed + 500, heavy_plan(seed))
-            plays.calm(player.world, 3)
+            calm(player.world, 3)
             watch = self.play(player, 24, calm_each=2)
             order = self.settle(player, watch)
             done += len(order)
@@ -131,6 +162,16 @@ class LongWorlds(unittest.TestCase):
         self.assertGreater(done, 40)
         self.assertGreater(several, 20)
         self.assertGreater(moved, 60)
+
+    def test_worlds_in_which_few_houses_stand(self):
+        done = fallen = 0
+        for seed in range(30):
+            player = plays.Player(seed + 900, heavy_plan(seed) if seed % 2 else None)
+            watch = self.play(player, 10, calm_each=3)
+            done += len(self.settle(player, watch, are_few=True))
+            fallen += len(player.world.plan()[1]) - len(player.world.standing())
+        self.assertGreater(done, 30)
+        self.assertGreater(fallen, 40)
 
     def many_groups(self, world, deal):
         """In how many groups the dealing was done."""
@@ -160,9 +201,11 @@ class FewHouses(unittest.TestCase):
     def test_no_calm_where_too_few_stand(self):
         world = plays.replayed(heavy_plan(0), [("fall", "ada"), ("fall", "bea"), ("fall", "cid")])
         self.assertFalse(plays.may_be_calmed(world))
-        plays.calm(world, 40)
+        calm(world, 40)
         plays.check_world(self, world)
+        self.assertEqual(faults(record_of(world)), [])
         self.assertFalse(plays.is_settled(world))
+        self.assertFalse(settled(world))
 
 
 if __name__ == "__main__":
